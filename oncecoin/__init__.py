@@ -1,0 +1,1 @@
+"""Oncecoin: a shop over several houses."""

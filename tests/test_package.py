@@ -1,0 +1,75 @@
+import ast
+import doctest
+import pathlib
+import unittest
+
+FOLDER = pathlib.Path(__file__).resolve().parent.parent / "oncecoin"
+
+# By file: the functions and classes of the document's interface, with the names of their arguments.
+INTERFACE = {
+    "codec.py": {"is_plain": ["value"], "write_value": ["value"], "read_value": ["text"]},
+    "forms.py": {"is_id": ["value"], "is_deed": ["value"], "is_key": ["value"], "first_value": ["key"],
+                 "is_amount": ["key"]},
+    "errors.py": {"ShopError": [], "InvalidDeed": ["deed"], "InvalidValue": ["given"], "InvalidText": ["text", "at"],
+                  "InvalidNumber": ["number"], "NoKey": ["key"], "Twice": ["deed_id"], "NotGranted": ["deed_id"],
+                  "NoLetter": ["number"], "NoActor": ["name"], "Busy": ["customer"], "Torn": ["text"],
+                  "BadBook": ["texts"], "NoOrder": ["ids"]},
+}
+
+
+def files():
+    return sorted(path for path in FOLDER.rglob("*") if "__pycache__" not in path.parts)
+
+
+def arguments(node):
+    """The names of the arguments of a function, or of the ones that a class is called with."""
+    if isinstance(node, ast.FunctionDef):
+        return [argument.arg for argument in node.args.args]
+    inits = [part for part in node.body if isinstance(part, ast.FunctionDef) and part.name == "__init__"]
+    return arguments(inits[0])[1:] if inits else []
+
+
+class PackageTest(unittest.TestCase):
+    """What LANGUAGE.md and the interface ask of the files as such."""
+
+    def test_the_folder_holds_python_files_alone(self):
+        self.assertEqual([path for path in files() if path.suffix != ".py"], [])
+
+    def test_sizes_and_characters(self):
+        for path in files():
+            text = path.read_text(encoding="utf-8")
+            with self.subTest(path.name):
+                self.assertLessEqual(len(text.splitlines()), 399)
+                self.assertLessEqual(max(len(line) for line in text.splitlines()), 120)
+                self.assertTrue(all(sign == "\n" or " " <= sign <= "~" for sign in text))
+
+    def test_functions_are_short(self):
+        for path in files():
+            for node in ast.walk(ast.parse(path.read_text(encoding="utf-8"))):
+                if isinstance(node, ast.FunctionDef):
+                    with self.subTest(path.name, function=node.name):
+                        self.assertLessEqual(node.end_lineno - node.lineno + 1, 40)
+
+    def test_imports_are_from_the_package(self):
+        for path in files():
+            for node in ast.walk(ast.parse(path.read_text(encoding="utf-8"))):
+                with self.subTest(path.name):
+                    self.assertNotIsInstance(node, ast.Import)
+                    if isinstance(node, ast.ImportFrom):
+                        self.assertTrue(node.module.startswith("oncecoin."))
+
+    def test_the_examples_of_the_readme(self):
+        failed, tried = doctest.testfile(str(FOLDER.parent / "README.md"), module_relative=False)
+        self.assertEqual(failed, 0)
+        self.assertGreater(tried, 0)
+
+    def test_the_interface_is_defined_where_it_is_listed(self):
+        for name, listed in INTERFACE.items():
+            body = ast.parse((FOLDER / name).read_text(encoding="utf-8")).body
+            found = {node.name: arguments(node) for node in body if isinstance(node, (ast.FunctionDef, ast.ClassDef))}
+            with self.subTest(name):
+                self.assertEqual({word: found.get(word) for word in listed}, listed)
+
+
+if __name__ == "__main__":
+    unittest.main()
