@@ -5,7 +5,8 @@ import unittest
 
 FOLDER = pathlib.Path(__file__).resolve().parent.parent / "oncecoin"
 
-# By file: the functions and classes of the document's interface, with the names of their arguments.
+# By file: the functions and classes of the document's interface, with the names of their arguments; the ones behind
+# "*" are passed by name.
 INTERFACE = {
     "codec.py": {"is_plain": ["value"], "write_value": ["value"], "read_value": ["text"]},
     "forms.py": {"is_id": ["value"], "is_deed": ["value"], "is_key": ["value"], "first_value": ["key"],
@@ -14,6 +15,16 @@ INTERFACE = {
                   "InvalidNumber": ["number"], "NoKey": ["key"], "Twice": ["deed_id"], "NotGranted": ["deed_id"],
                   "NoLetter": ["number"], "NoActor": ["name"], "Busy": ["customer"], "Torn": ["text"],
                   "BadBook": ["texts"], "NoOrder": ["ids"]},
+    "money.py": {"goods_value": ["pairs"], "tax_of": ["amount", "rate"], "total_of": ["value", "discount", "rate"],
+                 "share": ["total", "part", "whole"], "shares": ["total", "parts"]},
+    "scripts.py": {"next_step": ["deed_id", "deed", "told"]},
+    "plain.py": {"PlainBook": ["*", "start"]},
+}
+
+# By file and class: the methods that stand in the class itself.
+METHODS = {
+    ("plain.py", "PlainBook"): {"do": ["deed_id", "deed"], "value": ["key"], "all_values": [], "__len__": [],
+                                "__iter__": []},
 }
 
 
@@ -24,7 +35,8 @@ def files():
 def arguments(node):
     """The names of the arguments of a function, or of the ones that a class is called with."""
     if isinstance(node, ast.FunctionDef):
-        return [argument.arg for argument in node.args.args]
+        named = [argument.arg for argument in node.args.kwonlyargs]
+        return [argument.arg for argument in node.args.args] + (["*"] + named if named else [])
     inits = [part for part in node.body if isinstance(part, ast.FunctionDef) and part.name == "__init__"]
     return arguments(inits[0])[1:] if inits else []
 
@@ -69,6 +81,14 @@ class PackageTest(unittest.TestCase):
             found = {node.name: arguments(node) for node in body if isinstance(node, (ast.FunctionDef, ast.ClassDef))}
             with self.subTest(name):
                 self.assertEqual({word: found.get(word) for word in listed}, listed)
+
+    def test_listed_methods_stand_in_their_class(self):
+        for (name, word), listed in METHODS.items():
+            body = ast.parse((FOLDER / name).read_text(encoding="utf-8")).body
+            parts = [node for node in body if isinstance(node, ast.ClassDef) and node.name == word][0].body
+            found = {node.name: arguments(node)[1:] for node in parts if isinstance(node, ast.FunctionDef)}
+            with self.subTest(word):
+                self.assertEqual({method: found.get(method) for method in listed}, listed)
 
 
 if __name__ == "__main__":
