@@ -19,13 +19,47 @@ INTERFACE = {
                  "share": ["total", "part", "whole"], "shares": ["total", "parts"]},
     "scripts.py": {"next_step": ["deed_id", "deed", "told"]},
     "plain.py": {"PlainBook": ["*", "start"]},
+    "sums.py": {"things": ["values", "item"], "coins": ["values"], "promised": ["values", "store", "item"],
+                "owed": ["values"], "earned": ["values"], "faults": ["values"]},
+    "counters.py": {"Counter": ["house", "*", "start"]},
+    "lines.py": {"Line": []},
+    "disks.py": {"Disk": ["text"]},
+    "actors.py": {"Actor": ["name", "talks"]},
+    "houses.py": {"House": ["name", "*", "start"]},
+    "desks.py": {"Desk": ["name"]},
+    "nets.py": {"Net": ["desks", "*", "start"]},
+    "papers.py": {"edges": ["traces", "decisions"], "order_paper": ["traces", "decisions"],
+                  "apart": ["traces", "decisions"], "paper_holds": ["paper", "traces", "decisions", "*", "start"],
+                  "traces_of": ["net"], "decisions_of": ["net"], "paper_of": ["net"]},
+    "audits.py": {"on_the_way": ["net"], "effective": ["net"], "audit": ["net"]},
+    "statements.py": {"purse_told": ["rows", "coins"], "orders_told": ["customer", "rows"],
+                      "rows_of": ["net", "customer"]},
 }
 
 # By file and class: the methods that stand in the class itself.
 METHODS = {
     ("plain.py", "PlainBook"): {"do": ["deed_id", "deed"], "value": ["key"], "all_values": [], "__len__": [],
                                 "__iter__": []},
+    ("counters.py", "Counter"): {"ask": ["deed_id", "requests"], "end": ["deed_id", "writes"], "value": ["key"],
+                                 "all_values": [], "waiting": [], "granted": [], "trace": []},
+    ("lines.py", "Line"): {"send": ["body"], "take": ["number"], "acknowledge": ["number"], "sent": [], "got": [],
+                           "__len__": [], "__iter__": []},
+    ("disks.py", "Disk"): {"of_places": ["places"], "places": [], "write": ["text", "*", "cut"],
+                           "close": ["text", "*", "cut"], "mend": [], "head": [], "records": [], "book": [],
+                           "__len__": []},
+    ("actors.py", "Actor"): {"handle": ["event", "*", "cut"], "fall": [], "close": ["*", "cut"]},
+    ("houses.py", "House"): {"come_back": ["name", "places"], "state": [], "letters": [], "value": ["key"],
+                             "all_values": [], "waiting": [], "trace": []},
+    ("desks.py", "Desk"): {"come_back": ["name", "places"], "state": [], "letters": [], "decisions": [],
+                           "open_deeds": []},
+    ("nets.py", "Net"): {"ask": ["customer", "deed"], "open_deed": ["customer"], "answers": ["customer"],
+                         "actor": ["name"], "post": ["name"], "deliver": ["k", "*", "cut"], "double": ["k"],
+                         "lose": ["k"], "put_off": ["k"], "fall": ["name"], "close": ["name", "*", "cut"],
+                         "blackout": [], "calm": [], "__len__": [], "__iter__": []},
 }
+
+# By file and class: what is read off its objects without a call.
+PROPERTIES = {("lines.py", "Line"): ["got", "sent"], ("disks.py", "Disk"): ["book"]}
 
 
 def files():
@@ -81,6 +115,15 @@ class PackageTest(unittest.TestCase):
             found = {node.name: arguments(node) for node in body if isinstance(node, (ast.FunctionDef, ast.ClassDef))}
             with self.subTest(name):
                 self.assertEqual({word: found.get(word) for word in listed}, listed)
+
+    def test_listed_properties(self):
+        for (name, word), listed in PROPERTIES.items():
+            body = ast.parse((FOLDER / name).read_text(encoding="utf-8")).body
+            parts = [node for node in body if isinstance(node, ast.ClassDef) and node.name == word][0].body
+            found = [node.name for node in parts if isinstance(node, ast.FunctionDef)
+                     and "property" in [getattr(mark, "id", "") for mark in node.decorator_list]]
+            with self.subTest(word):
+                self.assertEqual(sorted(found), listed)
 
     def test_listed_methods_stand_in_their_class(self):
         for (name, word), listed in METHODS.items():
